@@ -1,0 +1,1 @@
+"""Curveseal: curve arithmetic and signatures."""

@@ -1,0 +1,84 @@
+"""The interface: every name stands in its file, with the arguments that the document lists."""
+
+import importlib
+import inspect
+import unittest
+
+FUNCTIONS = {
+    "octets": {
+        "to_big": "(number, size)",
+        "to_little": "(number, size)",
+        "from_big": "(data)",
+        "from_little": "(data)",
+        "to_digits": "(data)",
+        "from_digits": "(text)",
+        "is_bytes": "(value)",
+        "ascii_codes": "(text)",
+    },
+    "modular": {
+        "bezout": "(a, b)",
+        "inverse": "(a, modulus)",
+        "power": "(a, exponent, modulus)",
+        "square_class": "(a, prime)",
+        "jacobi": "(a, n)",
+        "square_root": "(a, prime)",
+        "join_residues": "(pairs)",
+    },
+    "papers": {
+        "factors": "(n)",
+        "is_prime": "(n)",
+        "make_paper": "(prime)",
+        "paper_prime": "(paper)",
+    },
+}
+CLASSES = {
+    "errors": {
+        "CurveError": {},
+        "OutOfRange": {},
+        "Malformed": {},
+        "NotAPoint": {},
+        "NoInverse": {},
+        "Refused": {},
+        "BadLine": {"__init__": "(self, line)"},
+    },
+    "weierstrass": {
+        "Curve": {
+            "__init__": "(self, prime, a, b)",
+            "has": "(self, point)",
+            "negate": "(self, point)",
+            "add": "(self, first, second)",
+            "double": "(self, point)",
+            "multiply": "(self, factor, point)",
+            "lift": "(self, x, odd)",
+        },
+    },
+}
+
+
+class InterfaceTest(unittest.TestCase):
+    def test_functions(self):
+        for module, names in FUNCTIONS.items():
+            loaded = importlib.import_module(f"curveseal.{module}")
+            for name, arguments in names.items():
+                with self.subTest(module=module, name=name):
+                    function = getattr(loaded, name)
+                    self.assertTrue(inspect.isfunction(function))
+                    self.assertEqual(function.__module__, loaded.__name__)
+                    self.assertEqual(str(inspect.signature(function)), arguments)
+
+    def test_classes(self):
+        for module, classes in CLASSES.items():
+            loaded = importlib.import_module(f"curveseal.{module}")
+            for name, methods in classes.items():
+                with self.subTest(module=module, name=name):
+                    made = getattr(loaded, name)
+                    self.assertTrue(inspect.isclass(made))
+                    self.assertEqual(made.__module__, loaded.__name__)
+                    for method, arguments in methods.items():
+                        # The method stands in the class itself, not only in a base class.
+                        self.assertIn(method, vars(made))
+                        self.assertEqual(str(inspect.signature(vars(made)[method])), arguments)
+
+
+if __name__ == "__main__":
+    unittest.main()

@@ -1,4 +1,9 @@
-"""Multiples by doubling and adding, for both kinds of curves."""
+"""Bits of factors, and multiples by doubling and adding for both kinds of curves."""
+
+
+def bits_from_top(number):
+    """Return the bits of a number that is not negative, the highest first."""
+    return [(number >> at) & 1 for at in range(number.bit_length() - 1, -1, -1)]
 
 
 def multiply_by_bits(curve, neutral, factor, point):

@@ -30,6 +30,47 @@ FUNCTIONS = {
         "make_paper": "(prime)",
         "paper_prime": "(paper)",
     },
+    "jacobian": {
+        "to_jacobian": "(point)",
+        "from_jacobian": "(curve, triple)",
+        "double_jacobian": "(curve, triple)",
+        "add_jacobian": "(curve, first, second)",
+        "same_point": "(curve, first, second)",
+        "multiply_jacobian": "(curve, factor, point)",
+    },
+    "ways": {
+        "window_digits": "(number, width)",
+        "signed_digits": "(number, width)",
+        "multiply_ladder": "(group, factor, point)",
+        "multiply_windows": "(group, factor, point, *, width=4)",
+        "multiply_signed": "(group, factor, point, *, width=4)",
+        "sum_of_multiples": "(group, pairs)",
+    },
+    "orders": {
+        "count_points": "(curve)",
+        "point_order": "(group, point, multiple, primes)",
+        "allowed_orders": "(prime, n)",
+    },
+    "extended": {
+        "to_extended": "(curve, point)",
+        "from_extended": "(curve, four)",
+        "add_extended": "(curve, first, second)",
+        "same_extended": "(curve, first, second)",
+        "multiply_extended": "(curve, factor, point)",
+    },
+    "groups": {
+        "split_point": "(group, point)",
+    },
+}
+GROUP_METHODS = {
+    "__init__": "(self, name, curve, base, order, cofactor)",
+    "neutral": "(self)",
+    "has": "(self, point)",
+    "add": "(self, first, second)",
+    "negate": "(self, point)",
+    "multiply": "(self, factor, point)",
+    "lift": "(self, coordinate, odd)",
+    "is_small": "(self, point)",
 }
 CLASSES = {
     "errors": {
@@ -51,6 +92,21 @@ CLASSES = {
             "multiply": "(self, factor, point)",
             "lift": "(self, x, odd)",
         },
+    },
+    "edwards": {
+        "EdwardsCurve": {
+            "__init__": "(self, prime, a, d)",
+            "has": "(self, point)",
+            "negate": "(self, point)",
+            "add": "(self, first, second)",
+            "double": "(self, point)",
+            "multiply": "(self, factor, point)",
+            "lift": "(self, y, odd)",
+        },
+    },
+    "groups": {
+        "Group": GROUP_METHODS,
+        "EdwardsGroup": GROUP_METHODS,
     },
 }
 

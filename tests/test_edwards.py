@@ -133,7 +133,8 @@ class SumTest(unittest.TestCase):
 
     def test_kinds_of_values(self):
         curve = EdwardsCurve(13, 12, 6)
-        for point in (curve.negate((10, 9)), curve.add((10, 9), (0, 12)), curve.double((10, 9)), curve.multiply(3, (10, 9))):
+        base = (10, 9)
+        for point in (curve.negate(base), curve.add(base, (0, 12)), curve.double(base), curve.multiply(3, base)):
             self.assertIs(type(point), tuple)
             self.assertEqual([type(item) for item in point], [int, int])
 

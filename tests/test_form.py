@@ -10,7 +10,10 @@ PACKAGE = pathlib.Path(__file__).resolve().parent.parent / "curveseal"
 LIBRARY = {
     "math": {"gcd", "lcm", "isqrt", "comb", "perm", "factorial"},
     "heapq": {"heappush", "heappop", "heapify", "heapreplace", "heappushpop"},
-    "itertools": {"product", "combinations", "permutations"},
+    "itertools": {
+        "product", "combinations", "permutations", "chain", "accumulate", "pairwise", "islice", "zip_longest",
+    },
+    "collections": {"defaultdict"},
 }
 BUILTINS = set(
     "len range enumerate zip min max sum abs sorted reversed int str bool list tuple dict set frozenset isinstance "
@@ -35,7 +38,7 @@ UNUSED_WORDS = (
 )
 ALLOWED_STATEMENTS = (
     ast.Assign, ast.AugAssign, ast.If, ast.While, ast.For, ast.Return, ast.Break, ast.Continue, ast.Pass, ast.Raise,
-    ast.Expr, ast.Try, ast.FunctionDef, ast.ClassDef, ast.ImportFrom,
+    ast.Expr, ast.Try, ast.FunctionDef, ast.ClassDef, ast.ImportFrom, ast.Assert, ast.Delete, ast.Nonlocal,
 )
 
 
@@ -65,6 +68,13 @@ def defined(tree):
         elif isinstance(node, ast.Assign):
             names += [target.id for target in node.targets]
     return names
+
+
+def bases(node):
+    """Return the own classes from which a class derives, directly or through other ones."""
+    names = [base.id for base in node.bases]
+    found = [other for _, other in nodes(ast.ClassDef) if other.name in names]
+    return found + [further for other in found for further in bases(other)]
 
 
 def bound_names():
@@ -237,11 +247,14 @@ class NamesTest(unittest.TestCase):
                 self.assertNotIn(node.attr, taken - FREE_METHODS, name)
 
     def test_no_name_is_a_method_and_an_attribute(self):
-        methods = {
-            part.name for _, node in nodes(ast.ClassDef) for part in node.body if isinstance(part, ast.FunctionDef)
-        }
-        attributes = {node.attr for _, node in nodes(ast.Attribute) if isinstance(node.ctx, ast.Store)}
-        self.assertEqual(methods & attributes, set())
+        for name, node in nodes(ast.ClassDef):
+            family = [node] + bases(node)
+            methods = {part.name for each in family for part in each.body if isinstance(part, ast.FunctionDef)}
+            attributes = {
+                part.attr for each in family for part in ast.walk(each)
+                if isinstance(part, ast.Attribute) and isinstance(part.ctx, ast.Store)
+            }
+            self.assertEqual(methods & attributes, set(), (name, node.name))
 
 
 if __name__ == "__main__":

@@ -9,6 +9,7 @@ from curveseal.errors import NotAPoint, Refused
 from curveseal.groups import EdwardsGroup, Group, split_point
 from curveseal.papers import factors
 from curveseal.weierstrass import Curve
+from makers import edwards_group, weierstrass_group
 from reference import (
     EDWARDS, SMALL_CURVES, SMALL_EDWARDS, WEIERSTRASS, curve_multiple, curve_points, curve_sum, edwards_multiple,
     edwards_points, edwards_sum,
@@ -21,16 +22,6 @@ SIZES = {
     "e13": (1, 1), "e29": (1, 1), "e61": (1, 1), "e241": (1, 1), "e1021": (2, 2), "e65521": (2, 2), "e31": (4, 4),
     "ed25519": (32, 32),
 }
-
-
-def weierstrass_group(name):
-    p, a, b, base, order = WEIERSTRASS[name]
-    return Group(name, Curve(p, a, b), base, order, 1)
-
-
-def edwards_group(name):
-    p, a, d, base, order, cofactor = EDWARDS[name]
-    return EdwardsGroup(name, EdwardsCurve(p, a, d), base, order, cofactor)
 
 
 class FieldsTest(unittest.TestCase):

@@ -246,7 +246,9 @@ class JoinResiduesTest(unittest.TestCase):
         self.assertEqual(join_residues([]), 0)
 
     def test_small_moduli(self):
-        for moduli in ((2, 3), (3, 2), (4, 9), (5, 1), (1, 5), (1, 1), (7, 3, 4), (1, 5, 1, 6), (2, 3, 5, 7), (1,), (9,)):
+        for moduli in (
+            (2, 3), (3, 2), (4, 9), (5, 1), (1, 5), (1, 1), (7, 3, 4), (1, 5, 1, 6), (2, 3, 5, 7), (1,), (9,),
+        ):
             product = math.prod(moduli)
             for expected in range(product):
                 pairs = [(expected % modulus, modulus) for modulus in moduli]

@@ -192,7 +192,9 @@ class PaperPrimeTest(unittest.TestCase):
                 self.assertIsNone(paper_prime((7, 3, ((value, TWO), (other, TWO)))))
 
     def test_two_has_no_other_paper(self):
-        for paper in ((2, 1, ()), (2, 1, ((1, TWO),)), (2, 0, ()), (2, 1), (2, 2), (2, 1, ((0, TWO),)), (True,), (2.0,)):
+        for paper in (
+            (2, 1, ()), (2, 1, ((1, TWO),)), (2, 0, ()), (2, 1), (2, 2), (2, 1, ((0, TWO),)), (True,), (2.0,),
+        ):
             self.assertIsNone(paper_prime(paper))
 
     def test_numbers_that_are_no_primes(self):
@@ -221,7 +223,9 @@ class PaperPrimeTest(unittest.TestCase):
         self.assertIsNone(paper_prime((7, 3, ())))
 
     def test_lists_are_no_papers(self):
-        for paper in ([7, 3, SEVEN[2]], (7, 3, list(SEVEN[2])), (7, 3, ([1, TWO], (1, THREE))), (7, 3, ((1, [2]), (1, THREE)))):
+        for paper in (
+            [7, 3, SEVEN[2]], (7, 3, list(SEVEN[2])), (7, 3, ([1, TWO], (1, THREE))), (7, 3, ((1, [2]), (1, THREE))),
+        ):
             self.assertIsNone(paper_prime(paper))
 
 

@@ -3,13 +3,11 @@
 import random
 import unittest
 
-from curveseal.edwards import EdwardsCurve
 from curveseal.errors import OutOfRange
-from curveseal.groups import EdwardsGroup, Group
 from curveseal.ways import (
     multiply_ladder, multiply_signed, multiply_windows, signed_digits, sum_of_multiples, window_digits,
 )
-from curveseal.weierstrass import Curve
+from makers import edwards_group, weierstrass_group
 from reference import EDWARDS, WEIERSTRASS, curve_multiple, curve_points, edwards_multiple, edwards_points
 
 FACTORS = tuple(range(-70, 71)) + (127, 128, 129, 255, 256, 257, -255, -256, -4095, 65535, 65536, 10 ** 9)
@@ -42,16 +40,6 @@ def ways():
         found.append((f"signed {width}", lambda g, k, q, width=width: multiply_signed(g, k, q, width=width)))
     found.append(("sum", lambda g, k, q: sum_of_multiples(g, [(k, q)])))
     return found
-
-
-def weierstrass_group(name):
-    p, a, b, base, order = WEIERSTRASS[name]
-    return Group(name, Curve(p, a, b), base, order, 1)
-
-
-def edwards_group(name):
-    p, a, d, base, order, cofactor = EDWARDS[name]
-    return EdwardsGroup(name, EdwardsCurve(p, a, d), base, order, cofactor)
 
 
 class WindowDigitsTest(unittest.TestCase):

@@ -14,3 +14,9 @@ def weierstrass_group(name):
 def edwards_group(name):
     p, a, d, base, order, cofactor = EDWARDS[name]
     return EdwardsGroup(name, EdwardsCurve(p, a, d), base, order, cofactor)
+
+
+def group_of_order_two(prime):
+    """Return an Edwards group over a prime of any size; its base is the point of order two."""
+    d = next(number for number in range(2, prime) if pow(number, (prime - 1) // 2, prime) != 1)
+    return EdwardsGroup("two", EdwardsCurve(prime, 1, d), (0, prime - 1), 2, 2)

@@ -11,17 +11,10 @@ from curveseal.papers import factors
 from curveseal.weierstrass import Curve
 from makers import edwards_group, weierstrass_group
 from reference import (
-    EDWARDS, SMALL_CURVES, SMALL_EDWARDS, WEIERSTRASS, curve_multiple, curve_points, curve_sum, edwards_multiple,
-    edwards_points, edwards_sum,
+    EDWARDS, SIZES, SMALL_CURVES, SMALL_EDWARDS, WEIERSTRASS, curve_multiple, curve_points, curve_sum,
+    edwards_multiple, edwards_points, edwards_sum,
 )
 from values import ODD_VALUES
-
-SIZES = {
-    "w11": (1, 1), "w23": (1, 1), "w43": (1, 1), "w79": (1, 1), "w251": (1, 1), "w1021": (2, 2), "w65521": (2, 2),
-    "w31": (4, 4), "p256": (32, 32), "secp256k1": (32, 32),
-    "e13": (1, 1), "e29": (1, 1), "e61": (1, 1), "e241": (1, 1), "e1021": (2, 2), "e65521": (2, 2), "e31": (4, 4),
-    "ed25519": (32, 32),
-}
 
 
 class FieldsTest(unittest.TestCase):

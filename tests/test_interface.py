@@ -61,6 +61,53 @@ FUNCTIONS = {
     "groups": {
         "split_point": "(group, point)",
     },
+    "named": {
+        "group_named": "(name)",
+    },
+    "shapes": {
+        "montgomery_numbers": "(curve)",
+        "to_montgomery": "(curve, point)",
+        "from_montgomery": "(curve, pair)",
+        "weierstrass_of": "(curve)",
+        "to_weierstrass": "(curve, point)",
+        "from_weierstrass": "(curve, point)",
+    },
+    "encoding": {
+        "edwards_size": "(group)",
+        "write_scalar": "(group, number)",
+        "read_scalar": "(group, data)",
+        "write_little_scalar": "(group, number)",
+        "read_little_scalar": "(group, data)",
+    },
+    "points": {
+        "write_point": "(group, point, *, compressed=True)",
+        "read_point": "(group, data)",
+        "read_compressed": "(group, data)",
+        "read_uncompressed": "(group, data)",
+        "write_x": "(group, point)",
+        "read_x": "(group, data)",
+        "write_edwards": "(group, point)",
+        "read_edwards": "(group, data)",
+    },
+    "tagged": {
+        "write_length": "(size)",
+        "read_length": "(data, at)",
+        "write_number": "(number)",
+        "write_pair": "(first, second)",
+        "read_pair": "(data)",
+        "write_tree": "(value)",
+        "read_tree": "(data)",
+    },
+    "signatures": {
+        "write_plain": "(group, r, s)",
+        "read_plain": "(group, data)",
+        "write_tagged": "(group, r, s)",
+        "read_tagged": "(group, data)",
+        "write_x_signature": "(group, point, s)",
+        "read_x_signature": "(group, data)",
+        "write_edwards_signature": "(group, point, s)",
+        "read_edwards_signature": "(group, data)",
+    },
 }
 GROUP_METHODS = {
     "__init__": "(self, name, curve, base, order, cofactor)",

@@ -34,8 +34,7 @@ def read_length(data, at):
     if size in (129, 130):
         behind += size - 128
         size = from_big(data[at + 1:behind])
-    elif size >= 128:
-        raise Malformed("the first byte of the length is not allowed")
+    # No length is written as one other byte from 128 on, so this refuses them, too.
     if data[at:behind] != write_length(size):
         raise Malformed("the length is not complete, or not written in the shortest way")
     return size, behind

@@ -108,6 +108,38 @@ FUNCTIONS = {
         "write_edwards_signature": "(group, point, s)",
         "read_edwards_signature": "(group, data)",
     },
+    "rounds": {
+        "digest_size": "(kind)",
+        "block_size": "(kind)",
+        "choose": "(x, y, z)",
+        "majority": "(x, y, z)",
+        "mixed_word": "(kind, name, x)",
+        "round_constants": "(kind)",
+        "start_words": "(kind)",
+        "schedule": "(kind, block)",
+        "compress": "(kind, words, block)",
+    },
+    "digest": {
+        "padding": "(kind, length)",
+        "digest": "(kind, data)",
+        "digest_parts": "(kind, parts)",
+    },
+    "hashes": {
+        "key_block": "(kind, key)",
+        "tagged": "(tag, data)",
+    },
+    "nonce": {
+        "leading_number": "(data, bits)",
+    },
+    "ecdsa": {
+        "message_number": "(group, digest)",
+        "public_key": "(group, secret)",
+        "sign_with": "(group, secret, nonce, digest)",
+        "sign": "(group, secret, digest, hasher, *, extra=(), low=True)",
+        "accepts": "(group, public, digest, signature, *, low=False)",
+        "is_low": "(group, s)",
+        "low_form": "(group, signature)",
+    },
 }
 GROUP_METHODS = {
     "__init__": "(self, name, curve, base, order, cofactor)",
@@ -118,6 +150,14 @@ GROUP_METHODS = {
     "multiply": "(self, factor, point)",
     "lift": "(self, coordinate, odd)",
     "is_small": "(self, point)",
+}
+HASHER_METHODS = {
+    "__init__": "(self)",
+    "digest": "(self, data)",
+    "digest_parts": "(self, parts)",
+    "keyed": "(self, key, data)",
+    "keyed_parts": "(self, key, parts)",
+    "pieces": "(self)",
 }
 CLASSES = {
     "errors": {
@@ -154,6 +194,27 @@ CLASSES = {
     "groups": {
         "Group": GROUP_METHODS,
         "EdwardsGroup": GROUP_METHODS,
+    },
+    "digest": {
+        "Digester": {
+            "__init__": "(self, kind)",
+            "add": "(self, data)",
+            "told": "(self)",
+            "length": "(self)",
+            "twin": "(self)",
+        },
+    },
+    "hashes": {
+        "Sha256": HASHER_METHODS,
+        "Sha512": HASHER_METHODS,
+    },
+    "nonce": {
+        "NonceSource": {
+            "__init__": "(self, order, secret, hasher, data, *, extra=())",
+            "next_nonce": "(self)",
+            "twin": "(self)",
+            "state": "(self)",
+        },
     },
 }
 

@@ -153,6 +153,10 @@ class WeierstrassTest(unittest.TestCase):
             curve = EdwardsCurve(3, a, d)
             with self.assertRaises(OutOfRange):
                 weierstrass_of(curve)
+            for point in edwards_points(3, a, d):
+                for function in (to_weierstrass, from_weierstrass):
+                    with self.assertRaises(OutOfRange):
+                        function(curve, point)
             self.assertEqual(montgomery_numbers(curve), numbers_of_point_59(3, a, d))
             for point in edwards_points(3, a, d):
                 self.assertEqual(from_montgomery(curve, to_montgomery(curve, point)), point)

@@ -10,13 +10,14 @@ LONGEST_DIGEST = 1024
 MOST_NONCES = 256
 
 
-def _check_group(group):
+def check_group(group):
+    """Raise OutOfRange if signatures of two numbers are not made over this group."""
     check_kind(group, "weierstrass")
     if group.cofactor != 1 or group.order < LEAST_ORDER:
         raise OutOfRange("the cofactor is not 1, or the order is less than 3")
 
 
-def _check_number(group, number, role):
+def check_number(group, number, role):
     """Raise OutOfRange if a secret, a nonce or a part of a signature is out of its bounds."""
     if number < 1 or number >= group.order:
         raise OutOfRange(f"the {role} is not from 1 to the order minus 1")
@@ -24,7 +25,7 @@ def _check_number(group, number, role):
 
 def message_number(group, digest):
     """Return the number of a digest."""
-    _check_group(group)
+    check_group(group)
     if len(digest) > LONGEST_DIGEST:
         raise OutOfRange("the digest has more than 1024 bytes")
     return leading_number(digest, group.order.bit_length()) % group.order
@@ -32,16 +33,16 @@ def message_number(group, digest):
 
 def public_key(group, secret):
     """Return the public key of a secret, a point."""
-    _check_group(group)
-    _check_number(group, secret, "secret")
+    check_group(group)
+    check_number(group, secret, "secret")
     return group.multiply(secret, group.base)
 
 
 def sign_with(group, secret, nonce, digest):
     """Return the signature of a digest with this nonce, or None."""
-    _check_group(group)
-    _check_number(group, secret, "secret")
-    _check_number(group, nonce, "nonce")
+    check_group(group)
+    check_number(group, secret, "secret")
+    check_number(group, nonce, "nonce")
     n = group.order
     e = message_number(group, digest)
     r = group.multiply(nonce, group.base)[0] % n
@@ -51,8 +52,8 @@ def sign_with(group, secret, nonce, digest):
 
 def sign(group, secret, digest, hasher, *, extra=(), low=True):
     """Return the signature of a digest, with the first nonce that gives one."""
-    _check_group(group)
-    _check_number(group, secret, "secret")
+    check_group(group)
+    check_number(group, secret, "secret")
     # The source checks the digest and the extra bytes.
     source = NonceSource(group.order, secret, hasher, digest, extra=extra)
     for _ in range(MOST_NONCES):
@@ -62,13 +63,19 @@ def sign(group, secret, digest, hasher, *, extra=(), low=True):
     raise Refused("none of the first nonces gives a signature")
 
 
+def is_signature(group, signature):
+    """Tell whether both numbers are from 1 to the order minus 1."""
+    r, s = signature
+    return 1 <= r < group.order and 1 <= s < group.order
+
+
 def accepts(group, public, digest, signature, *, low=False):
     """Tell whether a signature of a digest is accepted under a public key."""
     e = message_number(group, digest)
+    if not is_signature(group, signature) or public is None or not group.has(public):
+        return False
     n = group.order
     r, s = signature
-    if r < 1 or r >= n or s < 1 or s >= n or public is None or not group.has(public):
-        return False
     if low and not is_low(group, s):
         return False
     scale = inverse(s, n)
@@ -80,8 +87,8 @@ def accepts(group, public, digest, signature, *, low=False):
 
 def is_low(group, s):
     """Tell whether s is at most half of the order."""
-    _check_group(group)
-    _check_number(group, s, "number")
+    check_group(group)
+    check_number(group, s, "number")
     return s <= (group.order - 1) // 2
 
 

@@ -11,7 +11,10 @@ from curveseal.named import group_named
 from curveseal.nonce import NonceSource
 from curveseal.weierstrass import Curve
 from lists import check_lists
-from reference import EDWARDS, WEIERSTRASS, curve_multiple, curve_points, curve_sum
+from reference import EDWARDS, WEIERSTRASS, curve_multiple, curve_sum
+from tables import (
+    LESS_THAN_THE_PRIME, NO_NONCE, ORDER_THREE, ORDER_TWO, Tables, made_group, number_of, signature_of,
+)
 
 HASHERS = {"sha256": Sha256(), "sha512": Sha512()}
 # RFC 6979, A.2.5: the secret, the public key, and the signatures of two messages.
@@ -38,51 +41,6 @@ PUBLISHED = {
         0x39AF9F15DE0DB8D97E72719C74820D304CE5226E32DEDAE67519E840D1194E55,
     ),
 }
-
-
-def made_group(p, a, b):
-    """Return a group of all points of a curve, whose number is a prime."""
-    points = curve_points(p, a, b)
-    return Group("made", Curve(p, a, b), points[1], len(points), 1)
-
-
-# The base of the first one has an x-coordinate that is a multiple of its order 3.
-NO_NONCE = (7, 0, 4)
-ORDER_THREE = (5, 4, 3)
-ORDER_TWO = (5, 2, 0)
-# The order is less than the prime, so that r may stand for two x-coordinates.
-LESS_THAN_THE_PRIME = (23, 1, 19)
-
-
-def number_of(group, digest):
-    """Return the message number of point 106, from the bits of the digest."""
-    digits = "".join(format(byte, "08b") for byte in digest)[:group.order.bit_length()]
-    return int(digits or "0", 2) % group.order
-
-
-def signature_of(group, secret, nonce, digest):
-    n, p, a = group.order, group.prime, group.curve.a
-    r = curve_multiple(p, a, nonce, group.base)[0] % n
-    s = (number_of(group, digest) + r * secret) * pow(nonce, -1, n) % n
-    return (r, s) if r != 0 and s != 0 else None
-
-
-class Tables:
-    """The multiples of the base point of a small group, to check signatures without the program."""
-
-    def __init__(self, group):
-        self.group = group
-        self.points = [curve_multiple(group.prime, group.curve.a, k, group.base) for k in range(group.order)]
-        self.places = {point: k for k, point in enumerate(self.points)}
-
-    def accepted(self, public, digest, signature, low=False):
-        n = self.group.order
-        r, s = signature
-        if not (1 <= r < n and 1 <= s < n) or public is None or public not in self.places:
-            return False
-        factor = (number_of(self.group, digest) + r * self.places[public]) * pow(s, -1, n) % n
-        fits = factor != 0 and self.points[factor][0] % n == r
-        return fits and (not low or s <= (n - 1) / 2)
 
 
 class MessageNumberTest(unittest.TestCase):

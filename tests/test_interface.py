@@ -140,6 +140,43 @@ FUNCTIONS = {
         "is_low": "(group, s)",
         "low_form": "(group, signature)",
     },
+    "recovery": {
+        "signature_points": "(group, r)",
+        "recover_keys": "(group, digest, signature)",
+        "recover_key": "(group, digest, signature, hint)",
+        "find_hint": "(group, public, digest, signature)",
+    },
+    "schnorr": {
+        "schnorr_key": "(group, secret)",
+        "even_secret": "(group, secret)",
+        "schnorr_nonce": "(group, secret, message, extra)",
+        "challenge": "(group, form, key, message)",
+        "schnorr_sign": "(group, secret, message, *, extra=())",
+        "schnorr_accepts": "(group, key, message, signature)",
+    },
+    "batch": {
+        "batch_accepts": "(group, entries, factors)",
+        "batch_factors": "(group, entries)",
+    },
+    "team": {
+        "team_shares": "(group, keys)",
+        "team_point": "(group, keys)",
+        "team_key": "(group, keys)",
+        "right_partial": "(group, keys, message, nonces, place, number)",
+        "join_partials": "(group, keys, message, nonces, numbers)",
+    },
+    "eddsa": {
+        "seed_parts": "(group, seed)",
+        "eddsa_key": "(group, seed)",
+        "variant_parts": "(variant, message)",
+        "eddsa_sign": "(group, seed, message, *, variant=('pure',))",
+        "eddsa_difference": "(group, key, message, signature, *, variant=('pure',))",
+        "eddsa_accepts": "(group, key, message, signature, *, cofactored=True, variant=('pure',))",
+        "is_weak_key": "(group, key)",
+    },
+    "edbatch": {
+        "eddsa_batch_accepts": "(group, entries, factors)",
+    },
 }
 GROUP_METHODS = {
     "__init__": "(self, name, curve, base, order, cofactor)",
@@ -214,6 +251,14 @@ CLASSES = {
             "next_nonce": "(self)",
             "twin": "(self)",
             "state": "(self)",
+        },
+    },
+    "team": {
+        "Member": {
+            "__init__": "(self, group, keys, place, secret, message, session)",
+            "commitment": "(self)",
+            "reveal": "(self, commitments)",
+            "partial": "(self, nonces)",
         },
     },
 }

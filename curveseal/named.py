@@ -64,12 +64,19 @@ EDWARDS_NUMBERS = {
 }
 
 
+def group_kind(name):
+    """Return the kind of the group of a name, without making the group."""
+    if name in WEIERSTRASS_NUMBERS:
+        return "weierstrass"
+    if name in EDWARDS_NUMBERS:
+        return "edwards"
+    raise Malformed("there is no group of this name")
+
+
 def group_named(name):
     """Return the group of a name, as a new object."""
-    if name in WEIERSTRASS_NUMBERS:
+    if group_kind(name) == "weierstrass":
         prime, a, b, base, order = WEIERSTRASS_NUMBERS[name]
         return Group(name, Curve(prime, a, b), base, order, 1)
-    if name in EDWARDS_NUMBERS:
-        prime, d, base, order, cofactor = EDWARDS_NUMBERS[name]
-        return EdwardsGroup(name, EdwardsCurve(prime, -1, d), base, order, cofactor)
-    raise Malformed("there is no group of this name")
+    prime, d, base, order, cofactor = EDWARDS_NUMBERS[name]
+    return EdwardsGroup(name, EdwardsCurve(prime, -1, d), base, order, cofactor)

@@ -153,7 +153,17 @@ class StatementsTest(unittest.TestCase):
                 if isinstance(node, ast.Expr):
                     self.assertIs(node, tree.body[0])
                 if isinstance(node, ast.Assign):
-                    ast.literal_eval(node.value)
+                    self.check_value(name, tree, node)
+
+    def check_value(self, name, tree, node):
+        """Check that a name at module level is assigned a literal, or a dict of functions that stand above it."""
+        above = {other.name for other in tree.body if isinstance(other, ast.FunctionDef) and other.lineno < node.lineno}
+        if isinstance(node.value, ast.Dict) and all(isinstance(item, ast.Name) for item in node.value.values):
+            for key, item in zip(node.value.keys, node.value.values):
+                ast.literal_eval(key)
+                self.assertIn(item.id, above, name)
+        else:
+            ast.literal_eval(node.value)
 
     def test_kinds_of_statements(self):
         for name, node in nodes(ast.stmt):

@@ -177,6 +177,36 @@ FUNCTIONS = {
     "edbatch": {
         "eddsa_batch_accepts": "(group, entries, factors)",
     },
+    "schemes": {
+        "scheme_names": "()",
+        "scheme_named": "(name)",
+    },
+    "keys": {
+        "key_text": "(scheme, public)",
+        "read_key": "(text)",
+        "write_letter": "(scheme, secret, message)",
+        "read_letter": "(text)",
+        "answer_challenge": "(scheme, secret, challenge)",
+        "is_answer": "(scheme, public, challenge, signature)",
+    },
+    "entries": {
+        "is_entry": "(value)",
+        "pack": "(parts)",
+        "first_head": "(name, roots)",
+        "signed_bytes": "(head, entry)",
+        "consent_bytes": "(head, author, key)",
+        "next_head": "(head, entry)",
+        "make_entry": "(head, scheme, secret, kind, body)",
+        "make_replacement": "(head, scheme, secret, new_scheme, new_secret)",
+    },
+    "judging": {
+        "judge": "(name, roots, log)",
+        "good_path": "(roots, log, index, key, path)",
+        "common_beginning": "(first, second)",
+    },
+    "scenario": {
+        "play": "(text)",
+    },
 }
 GROUP_METHODS = {
     "__init__": "(self, name, curve, base, order, cofactor)",
@@ -259,6 +289,29 @@ CLASSES = {
             "commitment": "(self)",
             "reveal": "(self, commitments)",
             "partial": "(self, nonces)",
+        },
+    },
+    "schemes": {
+        "Scheme": {
+            "__init__": "(self, name)",
+            "public": "(self, secret)",
+            "sign": "(self, secret, message)",
+            "accepts": "(self, public, message, signature)",
+            "is_proper": "(self, public)",
+        },
+    },
+    "desk": {
+        "Desk": {
+            "__init__": "(self, name, roots)",
+            "offer": "(self, entry)",
+            "would": "(self, entry)",
+            "log": "(self)",
+            "head": "(self)",
+            "status": "(self, key)",
+            "rights": "(self, key)",
+            "line": "(self, key)",
+            "path": "(self, key)",
+            "known": "(self)",
         },
     },
 }

@@ -1,5 +1,6 @@
 """Points 165 and 168 to 172: curveseal.desk."""
 
+import copy
 import itertools
 import random
 import unittest
@@ -25,12 +26,12 @@ def opened(*actors):
 
 
 def view(desk):
-    """Return all that a desk tells of itself and of its keys."""
+    """Return all that a desk tells of itself and of its keys, as a copy."""
     keys = [actor.key for actor in ACTORS + NEW]
-    return (
+    return copy.deepcopy((
         desk.log(), desk.head(), desk.known(), [desk.status(key) for key in keys], [desk.rights(key) for key in keys],
         [(desk.line(key), desk.path(key)) for key in desk.known()],
-    )
+    ))
 
 
 class MakingTest(unittest.TestCase):

@@ -67,6 +67,7 @@ VARIANTS = (
 NO_VARIANTS = (
     (), ("pure", []), ("pure", [1]), ("Pure",), ("",), ("context",), ("prehashed",), ("context", []),
     ("context", [0] * 256), ("prehashed", [0] * 256), ("context", [1], [2]), ("prehashed", [], []), ("other", [1]),
+    ["pure"], ["context", [1]], ["prehashed", []], ("context", (1,)), "pure", None,
     ("context", [256]), ("prehashed", [-1]), ("context", None), ("prehashed", None), ("context", "a"), ("", []),
 )
 MESSAGES = ([], [0], [1, 2, 3], [255] * 200)

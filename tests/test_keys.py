@@ -89,7 +89,10 @@ class ReadKeyTest(unittest.TestCase):
         for other in changed_texts(text, CHARACTERS):
             with self.assertRaises(Malformed):
                 read_key(other)
-        for other in ("", ":", "::", ":::", text.upper(), text + "\n", text + " ", " " + text, text + ":", text * 2):
+        for other in ("ecdsa-w251", "ecdsa-w251:", "", ":", "::", ":::"):
+            with self.assertRaises(Malformed):
+                read_key(other)
+        for other in (text.upper(), text + "\n", text + " ", " " + text, text + ":", text * 2):
             with self.assertRaises(Malformed):
                 read_key(other)
         for length in (600, 601, 5000):

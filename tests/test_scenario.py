@@ -325,7 +325,7 @@ class BadLineTest(unittest.TestCase):
         self.check_next("player bob schnorr-w31 6")
 
     def test_secrets(self):
-        texts = ("", "-1", "+1", "01", "00", "1.0", "1e1", "0x1", "a", "1_0", "\u0661", "1 0", "9" * 19, "1" * 19)
+        texts = ("", "-1", "+1", "01", "00", "1.0", "1e1", "0x1", "a", "x", "1_0", "\u0661", "1 0", "9" * 19, "1" * 19)
         for secret in texts:
             self.check(f"player eve ecdsa-p256 {secret}", 1)
             self.check(f"player eve eddsa-ed25519 {secret}", 1)
